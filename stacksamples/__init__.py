@@ -1,0 +1,1 @@
+"""What samples of a call stack show, and what they can never show."""

@@ -1,0 +1,223 @@
+"""What the tests compare the program with: slow and plain readings of DOC.md, and values to try."""
+
+import copy
+import random
+
+PROGRAM = {"main": ["a", "b", "a"], "a": [("loop", ["c"])], "b": ["d", "c"], "c": [], "d": []}
+
+# Values of kinds that are neither programs nor names nor words nor products.
+STRANGE = [
+    None, True, False, 0, 1, -1, 2**70, "", "A", "a b", "\n", "main ", b"main", (), ("main",), {}, {1: 2}, {"a": []},
+    set(), (None,), ("maybe", ["a"]), [None], [True], [1], [[None]], [{}], [("a", 1)], [""], ["A"], ["abcdefghi"],
+    {"main": None}, {"main": ["b"]}, {None: []}, object(), int, len,
+]
+
+BAD_PROGRAMS = STRANGE + [[], {"main": ["a"]}, {"main": ["main"]}, {"main": [], "a": ["b"]}, {"a": []}, "main"]
+
+
+def bad_names(program):
+    """Values that are no functions of the program."""
+    return STRANGE + [[], ["main"], ("main",), "zz", "mai", "mainn", "MAIN"]
+
+
+def bad_words(program):
+    """Values that are no words of functions of the program."""
+    name = sorted(program)[0]
+    return [
+        None, True, 0, "", name, b"", (), (name,), {}, {name: name}, set(), {name}, ["zz"], [name, "zz"], ["zz", name],
+        [""], [None], [1], [True], [[name]], [(name,)], [[]], [name, None], [{}], [name.upper()], [name] * 61,
+    ]
+
+
+def joined(left, right, most):
+    return {ahead + behind for ahead in left for behind in right if len(ahead) + len(behind) <= most}
+
+
+def words(body, most, whole=True):
+    """All words of a body with at most so many names; with whole=False all parts of these and of longer ones."""
+    found = {()}
+    for item in body:
+        found = joined(found, words_of_item(item, most, whole), most)
+    return found
+
+
+def words_of_item(item, most, whole):
+    if isinstance(item, str):
+        return ({(item,)} if whole else {(item,), ()}) if most else set() if whole else {()}
+    kind, within = item
+    if kind == "one":
+        return set().union(*[words(body, most, whole) for body in within])
+    once = words(within, most, whole) | {()}
+    if kind == "maybe":
+        return once
+    found = {()}
+    while True:
+        more = joined(found, once, most)
+        if more == found:
+            return found
+        found = more
+
+
+def is_subword(part, word):
+    rest = iter(word)
+    return all(name in rest for name in part)
+
+
+def call_counts(program, most):
+    """A dict from each function to all numbers of calls, up to a limit, of a call of it that returns."""
+    found = {name: set() for name in program}
+    while True:
+        more = {
+            name: {1 + count for count in body_counts(found, program[name], most) if count < most}
+            for name in program
+        }
+        if more == found:
+            return found
+        found = more
+
+
+def body_counts(found, body, most):
+    counts = {0}
+    for item in body:
+        more = item_counts(found, item, most)
+        counts = {count + other for count in counts for other in more if count + other <= most}
+    return counts
+
+
+def item_counts(found, item, most):
+    if isinstance(item, str):
+        return found[item]
+    if item[0] == "one":
+        return set().union(*[body_counts(found, body, most) for body in item[1]])
+    # For the least number of calls, loops need not be done more than once.
+    return {0} | body_counts(found, item[1], most)
+
+
+def items_in(body):
+    """All items of a body, those within items included."""
+    inner = [within for item in body if isinstance(item, tuple) for within in
+             (item[1] if item[0] == "one" else [item[1]])]
+    return body + [item for within in inner for item in items_in(within)]
+
+
+def product_words(product, most):
+    """All words of a product with at most so many names."""
+    found = {()}
+    for atom in product:
+        if isinstance(atom, str):
+            found = joined(found, {(), (atom,)}, most)
+        else:
+            found = joined(found, words([("loop", [("one", [[name] for name in atom] + [[]])])], most), most)
+    return found
+
+
+def products_words(products, most):
+    return set().union(*[product_words(product, most) for product in products])
+
+
+def text_of(product):
+    return " ".join([atom if isinstance(atom, str) else "{" + " ".join(atom) + "}" for atom in product]) or "."
+
+
+def names_of(atom):
+    return {atom} if isinstance(atom, str) else set(atom)
+
+
+def is_normal(products, most=7):
+    """Whether products are in normal form [12]; words are compared up to a length."""
+    texts = [text_of(product) for product in products]
+    if texts != sorted(set(texts)):
+        return False
+    for product in products:
+        for left, right in zip(product, product[1:]):
+            if isinstance(right, tuple) and names_of(left) <= names_of(right):
+                return False
+            if isinstance(left, tuple) and names_of(right) <= names_of(left):
+                return False
+    found = [product_words(product, most) for product in products]
+    return not any(
+        one <= other for at, one in enumerate(found) for by, other in enumerate(found) if at != by
+    )
+
+
+def random_body(source, names, calls, level=1):
+    """A body with at most so many calls, and the number of calls in it."""
+    body, used = [], 0
+    for _ in range(source.randint(0, 3)):
+        if used >= calls:
+            break
+        kind = source.choice(["call", "call", "maybe", "loop", "one"]) if level < 4 else "call"
+        if kind == "call":
+            body.append(source.choice(names))
+            used += 1
+            continue
+        many = source.randint(2, 3) if kind == "one" else 1
+        bodies, empty = [], False
+        for _ in range(many):
+            inner, count = random_body(source, names, calls - used, level + 1)
+            if inner == [] and (empty or kind != "one"):
+                if used >= calls:
+                    break
+                inner, count = [source.choice(names)], 1
+            empty = empty or inner == []
+            used += count
+            bodies.append(inner)
+        if len(bodies) == many:
+            body.append((kind, bodies if kind == "one" else bodies[0]))
+    return body, used
+
+
+def random_programs(seed, many, functions=("main", "a", "b"), judge=None):
+    """So many programs from a seed, the same ones in each run; without a judge some are no programs."""
+    source = random.Random(seed)
+    found = []
+    while len(found) < many:
+        program = {name: random_body(source, list(functions), 5)[0] for name in functions}
+        if judge is None or judge(program):
+            found.append(program)
+    return found
+
+
+def random_product(source, names, atoms):
+    found = []
+    for _ in range(source.randint(0, atoms)):
+        if source.random() < 0.5:
+            found.append(source.choice(names))
+        else:
+            found.append(tuple(sorted(source.sample(names, source.randint(1, len(names))))))
+    return found
+
+
+def turned(program):
+    """An equal program whose functions stand in the dict in the opposite order."""
+    return {name: program[name] for name in reversed(list(program))}
+
+
+def unchanged(test, call, *values):
+    """The result of a call; it must leave its arguments as they are and must give a new result each time."""
+    before = copy.deepcopy(values)
+    found = call(*values)
+    test.assertEqual(values, before)
+    test.assertEqual(call(*before), found)
+    if isinstance(found, (list, dict)):
+        kept = copy.deepcopy(found)
+        spoil(found)
+        test.assertEqual(values, before)
+        test.assertEqual(call(*values), kept)
+        found = kept
+    return found
+
+
+def spoil(value):
+    """Change a result and all that can be changed within it."""
+    if isinstance(value, list):
+        for inner in value:
+            spoil(inner)
+        value.append("spoiled")
+    elif isinstance(value, dict):
+        for inner in value.values():
+            spoil(inner)
+        value["spoiled"] = []
+    elif isinstance(value, tuple):
+        for inner in value:
+            spoil(inner)
