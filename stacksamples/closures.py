@@ -2,7 +2,7 @@
 
 from stacksamples.bodies import bodies_within, names_in, net_of, word_around
 from stacksamples.errors import InvalidName, InvalidProducts, InvalidWord
-from stacksamples.programs import MOST_NAMES_IN_WORD, check_name, check_program, check_word, is_name
+from stacksamples.programs import check_name, check_program, check_word, is_name
 
 MOST_NAMES_IN_TUPLE = 5
 MOST_ATOMS = 12
@@ -33,8 +33,8 @@ def _check_products(products):
 
 def _check_word_of_names(word):
     """Raise InvalidWord unless a value is a word of any names."""
-    if not isinstance(word, list) or len(word) > MOST_NAMES_IN_WORD or not all([is_name(name) for name in word]):
-        raise InvalidWord("not a list of names, or too long")
+    if not isinstance(word, list) or not all([is_name(name) for name in word]):
+        raise InvalidWord("not a list of names")
 
 
 def _is_atom_within(atom, other):

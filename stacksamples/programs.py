@@ -11,7 +11,6 @@ MOST_LEVELS = 4
 FEWEST_CHOICES = 2
 MOST_CHOICES = 4
 MOST_CALLS_TO_RETURN = 12
-MOST_NAMES_IN_WORD = 60
 
 
 def is_name(value):
@@ -126,10 +125,9 @@ def check_name(program, name):
 
 def check_word(program, word):
     """Raise InvalidWord unless a value is a word of functions of a program."""
-    if not isinstance(word, list) or len(word) > MOST_NAMES_IN_WORD:
-        raise InvalidWord("not a list of names, or too long")
-    if not all([is_function(program, name) for name in word]):
-        raise InvalidWord("not only functions of the program")
+    # A word may be of any length: full_word returns words that are longer than the passed ones.
+    if not isinstance(word, list) or not all([is_function(program, name) for name in word]):
+        raise InvalidWord("not a list of functions of the program")
 
 
 def callees(program, name):

@@ -25,7 +25,9 @@ def bad_words(program):
     name = sorted(program)[0]
     return [
         None, True, 0, "", name, b"", (), (name,), {}, {name: name}, set(), {name}, ["zz"], [name, "zz"], ["zz", name],
-        [""], [None], [1], [True], [[name]], [(name,)], [[]], [name, None], [{}], [name.upper()], [name] * 61,
+        [""], [None], [1], [True], [[name]], [(name,)], [[]], [name, None], [{}], [name.upper()],
+        # Longer ones are no better for their length.
+        (name,) * 61, [name] * 61 + ["zz"], ["zz"] + [name] * 61, [name] * 30 + [None] + [name] * 30, name * 61,
     ]
 
 

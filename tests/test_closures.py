@@ -83,7 +83,8 @@ class Errors(unittest.TestCase):
     def test_words_of_any_names(self):
         bad = [
             None, True, 0, "", "a", (), ("a",), {}, {"a": 1}, set(), {"a"}, [""], ["A"], ["a", "b c"], ["abcdefghi"], [None],
-            [1], [True], [["a"]], [("a",)], ["a", None], [b"a"], ["a"] * 61,
+            [1], [True], [["a"]], [("a",)], ["a", None], [b"a"],
+            ("a",) * 61, ["a"] * 61 + ["A"], [""] + ["a"] * 61, ["a"] * 30 + [None] + ["a"] * 30, "a" * 61,
         ]
         for word in bad:
             for products in [[], [[]], [["a"]], [[("a",)]]]:
@@ -127,8 +128,20 @@ class Parts(unittest.TestCase):
             self.assertTrue(oracle.is_subword(word, found))
             self.assertEqual(found, ["a", "b", "c", "d", "e"] * (len(found) // 5))
             self.assertTrue(is_part(rounds, "main", word))
-        for call in [is_part, full_word]:
-            self.assertRaises(InvalidWord, call, rounds, "main", ["a"] * 61)
+
+    def test_longer_words_are_judged_like_others(self):
+        program = {"main": ["a", ("loop", ["b", "c"]), ("maybe", ["a"])], "a": [], "b": [], "c": []}
+        for many in [61, 100, 301]:
+            for word in [["c"] * many, ["a"] + ["b"] * many, ["c"] * many + ["a"]]:
+                self.assertIs(unchanged(self, is_part, program, "main", word), True)
+                found = unchanged(self, full_word, program, "main", word)
+                self.assertTrue(oracle.is_subword(word, found))
+                self.assertEqual(found[1:1 + 2 * many], ["b", "c"] * many)
+                self.assertIs(is_part(program, "main", found), True)
+                self.assertEqual(full_word(program, "main", found), found)
+            for word in [["c"] * many + ["a", "a"], ["a"] * many, ["a", "a"] + ["b"] * many]:
+                self.assertIs(unchanged(self, is_part, program, "main", word), False)
+                self.assertIsNone(unchanged(self, full_word, program, "main", word))
 
     def test_against_all_parts(self):
         tried = [word for many in range(5) for word in itertools.product(NAMES, repeat=many)]
@@ -259,6 +272,15 @@ class WordsOfProducts(unittest.TestCase):
         self.assertTrue(word_in([["a"] * 12], ["a"] * 12))
         self.assertTrue(word_in([["a", ("b",)] * 6], ["b"] * 59 + ["a"]))
         self.assertFalse(word_in([["a", ("b",)] * 6], ["a", "b"] * 30))
+
+    def test_longer_words_are_judged_like_others(self):
+        for many in [61, 100, 301]:
+            self.assertIs(unchanged(self, word_in, [["a"], [("a", "b")]], ["a", "b"] * many), True)
+            self.assertIs(word_in([["c", ("a",), "b"]], ["a"] * many + ["b"]), True)
+            self.assertIs(word_in([["c", ("a",), "b"]], ["a"] * many + ["b", "b"]), False)
+            self.assertIs(word_in([["c", ("a",), "b"], ["c"]], ["a"] * many + ["c"]), False)
+            self.assertIs(word_in([["a"] * 12], ["a"] * many), False)
+            self.assertIs(word_in([], ["a"] * many), False)
 
     def test_a_name_is_within_a_tuple_and_not_the_reverse(self):
         self.assertEqual([includes([[("a",)]], [["a"]]), includes([["a"]], [[("a",)]])], [True, False])

@@ -329,8 +329,16 @@ class Words(unittest.TestCase):
         self.assertEqual([is_word(program, "main", word), is_start(program, "main", word)], [False, True])
         word = ["b"] * 58 + ["a", "a"]
         self.assertEqual([is_word(program, "main", word), is_start(program, "main", word)], [False, False])
-        for call in [is_word, is_start]:
-            self.assertRaises(InvalidWord, call, program, "main", ["b"] * 61)
+
+    def test_longer_words_are_judged_like_others(self):
+        program = {"main": [("loop", [("maybe", ["a"]), "b"])], "a": [], "b": ["a", "a"]}
+        for many in [61, 62, 100, 301]:
+            rows = [(["b"] * many, True, True), (["b"] * many + ["a"], False, True), (["b"] * many + ["a", "a"], False, False)]
+            for word, whole, start in rows:
+                self.assertIs(unchanged(self, is_word, program, "main", word), whole)
+                self.assertIs(unchanged(self, is_start, program, "main", word), start)
+            self.assertIs(is_word(program, "b", ["a"] * many), False)
+            self.assertIs(is_start(program, "b", ["a"] * many), False)
 
     def test_against_all_words(self):
         names = ["main", "a", "b"]
