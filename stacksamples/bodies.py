@@ -87,12 +87,17 @@ def net_of(body):
     return [None] + names, nexts, ends
 
 
+def states_after(net, states, name):
+    """Return the ascending list of the states to which one more call leads from some states of a net."""
+    names, nexts, _ = net
+    return sorted({after for state in states for after in nexts[state] if names[after] == name})
+
+
 def states_behind(net, word):
     """Return the ascending list of the states in which a net can be behind a word."""
-    names, nexts, _ = net
     states = [0]
     for name in word:
-        states = sorted({after for state in states for after in nexts[state] if names[after] == name})
+        states = states_after(net, states, name)
     return states
 
 

@@ -37,7 +37,7 @@ def _check_word_of_names(word):
         raise InvalidWord("not a list of names")
 
 
-def _is_atom_within(atom, other):
+def is_atom_within(atom, other):
     """Return whether an atom has only words of another one."""
     if isinstance(other, str):
         return atom == other
@@ -51,7 +51,7 @@ def _is_product_within(product, other):
     for atom in other:
         # A name takes one atom away at most, a tuple as many as are within it.
         most = 1 if isinstance(atom, str) else len(product)
-        while taken < len(product) and most > 0 and _is_atom_within(product[taken], atom):
+        while taken < len(product) and most > 0 and is_atom_within(product[taken], atom):
             taken = taken + 1
             most = most - 1
     return taken == len(product)
@@ -72,9 +72,9 @@ def _without_idle_atoms(product):
     """Return a product without the atoms beside a tuple that contains them."""
     kept = []
     for atom in product:
-        while kept and isinstance(atom, tuple) and _is_atom_within(kept[-1], atom):
+        while kept and isinstance(atom, tuple) and is_atom_within(kept[-1], atom):
             kept.pop()
-        if not kept or isinstance(kept[-1], str) or not _is_atom_within(atom, kept[-1]):
+        if not kept or isinstance(kept[-1], str) or not is_atom_within(atom, kept[-1]):
             kept.append(atom)
     return kept
 

@@ -1,7 +1,7 @@
 """Programs: whether a value is one, what its functions call, and their words."""
 
 from stacksamples.bodies import names_in, net_of, states_behind
-from stacksamples.errors import InvalidName, InvalidProgram, InvalidWord
+from stacksamples.errors import InvalidName, InvalidProgram, InvalidSamples, InvalidStacks, InvalidWord
 
 MOST_LETTERS = 8
 MOST_FUNCTIONS = 6
@@ -11,6 +11,7 @@ MOST_LEVELS = 4
 FEWEST_CHOICES = 2
 MOST_CHOICES = 4
 MOST_CALLS_TO_RETURN = 12
+MOST_NAMES_IN_STACK = 8
 
 
 def is_name(value):
@@ -99,6 +100,24 @@ def _least_calls(program):
     return least
 
 
+def _quick_word(least, body):
+    """Return a word of a body whose calls need the least number of calls."""
+    found = []
+    for item in body:
+        if isinstance(item, str):
+            found.append(item)
+        elif item[0] == "one":
+            needs = [_least_in_body(least, inner) for inner in item[1]]
+            found.extend(_quick_word(least, item[1][needs.index(min(needs))]))
+    return found
+
+
+def quick_words(program):
+    """Return a dict from each function to the word that a shortest call of it calls."""
+    least = _least_calls(program)
+    return {name: _quick_word(least, program[name]) for name in program}
+
+
 def is_program(value):
     """Return whether any value is a program."""
     if not isinstance(value, dict) or len(value) > MOST_FUNCTIONS or "main" not in value:
@@ -128,6 +147,29 @@ def check_word(program, word):
     # A word may be of any length: full_word returns words that are longer than the passed ones.
     if not isinstance(word, list) or not all([is_function(program, name) for name in word]):
         raise InvalidWord("not a list of functions of the program")
+
+
+def _is_stack(program, value):
+    """Return whether any value is a stack of functions of a program."""
+    if not isinstance(value, tuple) or not 1 <= len(value) <= MOST_NAMES_IN_STACK:
+        return False
+    return all([is_function(program, name) for name in value])
+
+
+def check_stacks(program, stacks):
+    """Raise InvalidStacks unless a value is a list of stacks that all begin with the same function."""
+    if not isinstance(stacks, list) or not all([_is_stack(program, stack) for stack in stacks]):
+        raise InvalidStacks("not a list of stacks of functions of the program")
+    if not all([stack[0] == stacks[0][0] for stack in stacks]):
+        raise InvalidStacks("the stacks do not begin with the same function")
+
+
+def check_samples(program, samples):
+    """Raise InvalidSamples unless a value is a list of stacks that all begin with main."""
+    if not isinstance(samples, list) or not all([_is_stack(program, stack) for stack in samples]):
+        raise InvalidSamples("not a list of stacks of functions of the program")
+    if not all([stack[0] == "main" for stack in samples]):
+        raise InvalidSamples("not all samples begin with main")
 
 
 def callees(program, name):

@@ -1,6 +1,7 @@
 """What the tests compare the program with: slow and plain readings of DOC.md, and values to try."""
 
 import copy
+import itertools
 import random
 
 PROGRAM = {"main": ["a", "b", "a"], "a": [("loop", ["c"])], "b": ["d", "c"], "c": [], "d": []}
@@ -193,6 +194,164 @@ def random_product(source, names, atoms):
 def turned(program):
     """An equal program whose functions stand in the dict in the opposite order."""
     return {name: program[name] for name in reversed(list(program))}
+
+
+# Values that are neither stacks nor lists of stacks nor runs, and numbers of no sample.
+BAD_STACKS = [
+    None, True, 0, "", "main", "a", b"main", [], ["main"], ["main", "a"], (), {}, {"main": 1}, set(), (None,), (1,), (True,),
+    ("",), ("Main",), ("zz",), ("main", "zz"), ("zz", "main"), ("main", None), ("main", 1), ("main", ["a"]), ("main", ("a",)),
+    ("main", {}), (["main"],), (("main",),), ("main",) * 9, ("main", "a") * 5, object(), int,
+]
+
+
+def bad_stack_lists(good):
+    """Values that are no lists of stacks; good is a stack that may stand in such a list."""
+    found = [
+        None, True, False, 0, 1, "", "main", b"main", (), (good,), (good, good), {}, {0: good}, {good: good}, set(), {good},
+        good, list(good), [[good]], [(good,)], object(), list, [good, [good]], iter([good]),
+    ]
+    for bad in BAD_STACKS:
+        found += [[bad], [good, bad], [bad, good], [good] * 200 + [bad]]
+    return found
+
+
+def frozen(body):
+    """A body as a tuple in which everything can be hashed."""
+    return tuple(item if isinstance(item, str) else (item[0], tuple(map(frozen, inner_bodies(item)))) for item in body)
+
+
+def inner_bodies(item):
+    return item[1] if item[0] == "one" else [item[1]]
+
+
+def can_be_left_out(item):
+    return not isinstance(item, str) and (item[0] != "one" or any(can_end(body) for body in item[1]))
+
+
+def can_end(rest):
+    """Whether no further call is needed if these items are still to be done."""
+    return all(can_be_left_out(item) for item in rest)
+
+
+def moves(rest):
+    """All pairs of a next call and the items that are still to be done behind it."""
+    if not rest:
+        return set()
+    item, behind = rest[0], rest[1:]
+    if isinstance(item, str):
+        return {(item, behind)}
+    again = (item,) if item[0] == "loop" else ()
+    found = {(name, left + again + behind) for body in item[1] for name, left in moves(body)}
+    return found | moves(behind) if can_be_left_out(item) else found
+
+
+def rests_behind(body, word):
+    """All that can still be to do of a body behind these calls."""
+    rests = {frozen(body)}
+    for name in word:
+        rests = {left for rest in rests for callee, left in moves(rest) if callee == name}
+    return rests
+
+
+def told_by(value):
+    """All calls of steps as lists [name, calls made, whether it has returned], and the stacks; None if no call is open
+    where a step needs one. [7], but for the words of the functions."""
+    calls, path, stacks = [], [], []
+    for number, step in enumerate(value):
+        if number and not path:
+            return None
+        if step == ("return",) and path:
+            path.pop()[2] = True
+        elif step == ("sample",) and 1 <= len(path) <= 8:
+            stacks.append(tuple(call[0] for call in path))
+        elif isinstance(step, tuple) and len(step) == 2 and step[0] == "call":
+            if path:
+                path[-1][1].append(step[1])
+            elif step[1] != "main":
+                return None
+            path.append([step[1], [], False])
+            calls.append(path[-1])
+        else:
+            return None
+    return calls, stacks
+
+
+def is_run(program, value):
+    """Whether a list of steps is a run by the rules of [7], each call on its own."""
+    told = told_by(value)
+    if told is None or not all(isinstance(name, str) and name in program for name, _, _ in told[0]):
+        return False
+    for name, word, returned in told[0]:
+        rests = rests_behind(program[name], word)
+        if not (any(can_end(rest) for rest in rests) if returned else rests):
+            return False
+    return True
+
+
+def can_show(program, root, stacks, deepest=6):
+    """Whether one call of a function can show stacks: a search step by step over all that can be open."""
+    places = {((root, frozen(program[root])),)}
+    for stack in stacks:
+        places = {place for place in all_behind(program, places, deepest) if tuple(name for name, _ in place) == stack}
+    return bool(places)
+
+
+def all_behind(program, places, deepest):
+    """All lists of open calls, with what each one has still to do, to which steps lead."""
+    seen, waiting = set(places), list(places)
+    while waiting:
+        place = waiting.pop()
+        name, rest = place[-1]
+        found = [place[:-1]] if can_end(rest) and len(place) > 1 else []
+        if len(place) < deepest:
+            found += [place[:-1] + ((name, left), (callee, frozen(program[callee]))) for callee, left in moves(rest)]
+        for new in found:
+            if new not in seen:
+                seen.add(new)
+                waiting.append(new)
+    return seen
+
+
+def random_stacks(source, program, root, many, deepest=3):
+    """So many stacks in which each call is one that the function around it calls, now and then also another one."""
+    found = []
+    for _ in range(many):
+        stack = [root]
+        while len(stack) < deepest and source.random() < 0.7:
+            inner = sorted({item for item in items_in(program[stack[-1]]) if isinstance(item, str)})
+            if source.random() < 0.03:
+                inner = sorted(program)
+            if not inner:
+                break
+            stack.append(source.choice(inner))
+        found.append(tuple(stack))
+    return found
+
+
+def random_steps(source, program, name, level=1):
+    """The steps of some call of a function, with samples in it; the call need not end."""
+    yield ("call", name)
+    yield from random_steps_of_body(source, program, program[name], level)
+    yield ("return",)
+
+
+def random_steps_of_body(source, program, body, level):
+    for item in body:
+        if level <= 8 and source.random() < 0.3:
+            yield ("sample",)
+        if isinstance(item, str):
+            yield from random_steps(source, program, item, level + 1)
+            continue
+        rounds = {"one": 1, "maybe": source.randint(0, 1), "loop": source.randint(0, 2)}[item[0]]
+        for _ in range(rounds):
+            yield from random_steps_of_body(source, program, source.choice(inner_bodies(item)), level)
+    if level <= 8 and source.random() < 0.3:
+        yield ("sample",)
+
+
+def random_run(source, program, many):
+    """A run with at most so many steps."""
+    return list(itertools.islice(random_steps(source, program, "main"), many))
 
 
 def unchanged(test, call, *values):

@@ -4,26 +4,55 @@ import doctest
 import pathlib
 import unittest
 
+from stacksamples.errors import StackError
+
 HERE = pathlib.Path(__file__).parent
 
 
-def failures(path):
-    """How many examples of a file there are, and how many of them fail."""
+def answer(source, names):
+    """What an example shows: the value of an expression, an error, or nothing."""
+    try:
+        compiled = compile(source, "example", "eval")
+    except SyntaxError:
+        exec(source, names)
+        return ""
+    try:
+        found = eval(compiled, names)
+    except StackError as error:
+        fields = [f"{name}={value!r}" for name, value in vars(error).items()]
+        return f"raises {type(error).__name__}({', '.join(fields)})"
+    return "" if found is None else repr(found)
+
+
+def examples(path):
+    """The source and the answer of each example of a file, and the answer that it has now."""
+    names = {}
     # A fence directly behind an answer is no part of it.
-    text = path.read_text().replace("```", "")
-    test = doctest.DocTestParser().get_doctest(text, {}, path.name, str(path), 0)
-    found = doctest.DocTestRunner(verbose=False).run(test)
-    return found.attempted, found.failed
+    found = doctest.DocTestParser().get_examples(path.read_text().replace("```", ""))
+    return [(example.source, example.want.strip(), answer(example.source, names)) for example in found]
 
 
 class Examples(unittest.TestCase):
+    def check(self, path, least):
+        found = examples(path)
+        self.assertGreaterEqual(len(found), least)
+        for source, wanted, given in found:
+            with self.subTest(source=source):
+                self.assertEqual(given, wanted)
+
     def test_of_the_document(self):
         text = (HERE / "examples.md").read_text()
-        for number in range(14, 22):
+        for number in range(14, 32):
             self.assertIn(f"[{number}]\n", text)
-        attempted, failed = failures(HERE / "examples.md")
-        self.assertEqual((attempted > 20, failed), (True, 0))
+        self.check(HERE / "examples.md", 70)
 
     def test_of_the_readme(self):
-        attempted, failed = failures(HERE.parent / "README.md")
-        self.assertEqual((attempted > 8, failed), (True, 0))
+        self.check(HERE.parent / "README.md", 20)
+
+    def test_are_those_of_the_document(self):
+        document = HERE.parent.parent / "shared" / "DOC.md"
+        if not document.exists():
+            self.skipTest("no document here")
+        whole = document.read_text()
+        for example in (HERE / "examples.md").read_text().split("```")[1::2]:
+            self.assertIn(example, whole)

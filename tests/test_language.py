@@ -7,10 +7,11 @@ import pathlib
 import string
 import unittest
 
-import stacksamples.bodies
+import stacksamples.blocks
 import stacksamples.closures
-import stacksamples.errors
+import stacksamples.conflicts
 import stacksamples.programs
+import stacksamples.shows
 
 FOLDER = pathlib.Path(stacksamples.programs.__file__).parent
 ALLOWED = set(string.printable) - set("\t\r\x0b\x0c")
@@ -29,7 +30,28 @@ INTERFACE = {
         "products_of": ["program", "name"], "word_in": ["products", "word"], "includes": ["products", "other"],
         "reduced": ["products"], "is_repeatable": ["program", "name", "callee"],
     },
+    stacksamples.blocks: {
+        "regions": ["program", "stacks"], "fits": ["program", "stacks"], "longest_fit": ["program", "stacks"],
+        "fewest_blocks": ["program", "stacks"], "walk_blocks": ["program", "stacks"],
+    },
+    stacksamples.shows: {
+        "shows": ["program", "samples"], "run_for": ["program", "samples"], "is_run": ["program", "value"],
+        "samples_of": ["program", "run"], "calls_of": ["program", "run"],
+    },
+    stacksamples.conflicts: {
+        "conflict": ["program", "samples"], "is_conflict": ["program", "samples", "value"],
+        "fewest_left_out": ["program", "samples"], "shown_rest": ["program", "samples"],
+    },
 }
+METHODS = """
+    append clear copy count endswith extend find get index insert isalnum isalpha isdigit islower isspace isupper items join
+    keys ljust lower lstrip partition pop remove replace reverse rfind rjust rpartition rsplit rstrip setdefault split
+    splitlines startswith strip update upper values zfill bit_length add discard
+""".split()
+BARRED_NAMES = """
+    mro elements open input law version_info with_traceback add_note register id type vars dir eval exec exit help locals
+    globals compile super os sys quit license credits copyright
+""".split()
 
 
 class Language(unittest.TestCase):
@@ -64,7 +86,9 @@ class Language(unittest.TestCase):
             for node in tree.body:
                 self.assertIsInstance(node, kinds)
                 if isinstance(node, (ast.Expr, ast.Assign)):
-                    self.assertIsInstance(node.value, ast.Constant)
+                    self.assertIsInstance(node.value, (ast.Constant, ast.Tuple))
+                    self.assertTrue(isinstance(node, ast.Assign) or isinstance(node.value, ast.Constant))
+                    hash(ast.literal_eval(node.value))
 
     def test_what_is_left_out(self):
         barred = (ast.Import, ast.AsyncFunctionDef, ast.Await, ast.Div)
@@ -76,6 +100,44 @@ class Language(unittest.TestCase):
                 # Where examples are run, the name _ is a builtin, too.
                 if isinstance(node, ast.Name) and node.id != "_" and hasattr(builtins, node.id):
                     self.assertIn(node.id, BUILTINS, name)
+
+    def test_names_and_methods(self):
+        for name, text, tree in self.each_file():
+            for node in ast.walk(tree):
+                if isinstance(node, ast.Call) and isinstance(node.func, ast.Attribute):
+                    self.assertIn(node.func.attr, METHODS + ["__init__"], name)
+                names = [
+                    getattr(node, field, None) for field in ["id", "arg", "attr", "name"]
+                    if not (isinstance(node, ast.Name) and isinstance(node.ctx, ast.Load))
+                ]
+                for found in names:
+                    self.assertNotIn(found, BARRED_NAMES, name)
+                if isinstance(node, (ast.FunctionDef, ast.ClassDef)):
+                    self.assertEqual(node.decorator_list, [])
+                    self.assertTrue(node.name == "__init__" or not hasattr(builtins, node.name), node.name)
+            strings = [node.value for node in ast.walk(tree) if isinstance(node, ast.Constant) and isinstance(node.value, str)]
+            self.assertFalse(any("%" in found for found in strings), name)
+
+    def test_no_name_of_an_import_means_something_else(self):
+        for name, _, tree in self.each_file():
+            imported = [alias.name for node in tree.body if isinstance(node, ast.ImportFrom) for alias in node.names]
+            self.assertEqual(len(imported), len(set(imported)), name)
+            for node in ast.walk(tree):
+                if isinstance(node, ast.Name) and isinstance(node.ctx, ast.Store):
+                    self.assertNotIn(node.id, imported, name)
+                if isinstance(node, ast.arg):
+                    self.assertNotIn(node.arg, imported, name)
+
+    def test_no_files_import_each_other(self):
+        imports = {
+            name[:-3]: [node.module.split(".")[1] for node in tree.body if isinstance(node, ast.ImportFrom)]
+            for name, _, tree in self.each_file()
+        }
+        left = dict(imports)
+        while left:
+            ready = [name for name in left if not any(other in left for other in left[name])]
+            self.assertNotEqual(ready, [], left)
+            left = {name: left[name] for name in left if name not in ready}
 
     def test_interface(self):
         for module, functions in INTERFACE.items():
