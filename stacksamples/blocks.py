@@ -5,13 +5,14 @@ call are a tuple with one number for each product of its function: the place of 
 that stands for its last call so far, as early as it can be, -1 without calls, and None
 if the calls so far are no word of the product.
 
-A track tells what one call has shown so far. It is a tuple (stack, marks, kept): the last
-stack, the marks of each call in it, and how many of these calls were open at the stack
-before, too. With each call that goes on as long as it can, there are as few as possible.
+A track tells what one call has shown so far. It is a tuple (stack, frames, kept): the last
+stack, a tuple (products, marks) for each call in it, and how many of these calls were open
+at the stack before, too. With each call that goes on as long as it can, there are as few
+as possible.
 """
 
 from stacksamples.closures import is_atom_within, normal_products
-from stacksamples.programs import check_program, check_stacks
+from stacksamples.programs import MOST_NAMES_IN_STACK, check_program, check_stacks
 
 # The track of a call that has shown nothing so far.
 NOTHING = ((), (), 0)
@@ -22,9 +23,9 @@ def guides_of(program):
     return {name: normal_products(program[name]) for name in program}
 
 
-def turned(guides):
-    """Return the guides with which tracks go from the last stack to the first one."""
-    return {name: [product[::-1] for product in guides[name]] for name in guides}
+def turned_products(products):
+    """Return the products with which a track goes from the last call to the first one."""
+    return [product[::-1] for product in products]
 
 
 def _mark_behind(product, mark, name):
@@ -45,8 +46,8 @@ def _marks_behind(products, marks, name):
     return found if any([mark is not None for mark in found]) else None
 
 
-def _marks_alone(guides, stack):
-    """Return the marks of the calls in a stack that is the first one, None if it alone does not fit."""
+def _frames_alone(guides, stack):
+    """Return the frames of the calls in a stack that are all new, None if one of them cannot make the next one."""
     found = []
     for depth in range(len(stack)):
         products = guides[stack[depth]]
@@ -55,7 +56,7 @@ def _marks_alone(guides, stack):
             marks = _marks_behind(products, marks, stack[depth + 1])
         if marks is None:
             return None
-        found.append(marks)
+        found.append((products, marks))
     return tuple(found)
 
 
@@ -69,31 +70,41 @@ def _same_names(stack, other):
     return many
 
 
-def next_track(guides, track, stack):
-    """Return the track behind one more stack, None if the call cannot show it, too."""
-    shown, marks, _ = track
-    alone = _marks_alone(guides, stack)
-    if alone is None:
-        return None
+def next_track(guides, track, stack, most=MOST_NAMES_IN_STACK):
+    """Return the track behind one more stack, None if the call cannot show it, too.
+
+    At most so many calls stay open from the stack before to this one.
+    """
+    shown, frames, _ = track
     if not shown:
-        return stack, alone, 0
-    same = _same_names(shown, stack)
+        alone = _frames_alone(guides, stack)
+        return None if alone is None else (stack, alone, 0)
+    same = min(_same_names(shown, stack), most)
     if same == len(stack):
-        return stack, marks[:same], same
+        return stack, frames[:same], same
     # The deeper the first new call is, the fewer of the calls around it end.
     for depth in reversed(range(same)):
-        behind = _marks_behind(guides[stack[depth]], marks[depth], stack[depth + 1])
+        products, marks = frames[depth]
+        behind = _marks_behind(products, marks, stack[depth + 1])
         if behind is not None:
-            return stack, marks[:depth] + (behind,) + alone[depth + 1:], depth + 1
+            alone = _frames_alone(guides, stack[depth + 1:])
+            # What one of these calls cannot make, it cannot make either if more calls are new.
+            return None if alone is None else (stack, frames[:depth] + ((products, behind),) + alone, depth + 1)
     return None
 
 
-def tracks_of(guides, stacks):
-    """Return the tracks behind the first 0, 1, 2 and more stacks, None where one call cannot show these."""
-    found = [NOTHING]
+def tracks_of(guides, stacks, first=NOTHING):
+    """Return a track and those behind one more stack, two and more, None where one call cannot show these, too."""
+    found = [first]
     for stack in stacks:
         found.append(None if found[-1] is None else next_track(guides, found[-1], stack))
     return found
+
+
+def turned_tracks(guides, stacks):
+    """Return the tracks from behind of all stacks, of all but the first 1, 2 and more, None where they do not fit."""
+    from_behind = {name: turned_products(guides[name]) for name in guides}
+    return tracks_of(from_behind, stacks[::-1])[::-1]
 
 
 def _have_place(products, marks, turned_marks, is_one):
@@ -110,17 +121,17 @@ def _have_place(products, marks, turned_marks, is_one):
     return False
 
 
-def can_follow(guides, track, turned_track):
+def can_follow(track, turned_track):
     """Return whether one call can show the stacks of a track and then those of a track from behind."""
-    stack, marks, _ = track
-    other, turned_marks, _ = turned_track
+    stack, frames, _ = track
+    other, turned_frames, _ = turned_track
     if not stack or not other:
         return True
-    same = _same_names(stack, other)
     is_one = False
     # From the innermost calls outwards: if two calls can be one, the call around them makes one call less.
-    for depth in reversed(range(same)):
-        is_one = _have_place(guides[stack[depth]], marks[depth], turned_marks[depth], is_one)
+    for depth in reversed(range(_same_names(stack, other))):
+        products, marks = frames[depth]
+        is_one = _have_place(products, marks, turned_frames[depth][1], is_one)
     return is_one
 
 

@@ -130,3 +130,46 @@ def _names_on_way(names, came_from, place):
         found.append(names[place[0]])
         place = came_from[place]
     return found[::-1]
+
+
+def _limited_item(item, names):
+    """Return the rest of an item of a body in which only some names occur: no item or one, None if there is none."""
+    if isinstance(item, str):
+        return [item] if item in names else None
+    bodies = [limited_body(body, names) for body in bodies_within(item)]
+    bodies = [body for body in bodies if body is not None]
+    if item[0] == "one" and not bodies:
+        return None
+    # Bodies without names describe the empty word alone.
+    if not any([names_in(body) for body in bodies]):
+        return []
+    return [(item[0], bodies if item[0] == "one" else bodies[0])]
+
+
+def limited_body(body, names):
+    """Return a body that describes the words of a body in which only some names occur, None if there are none."""
+    found = []
+    for item in body:
+        rest = _limited_item(item, names)
+        if rest is None:
+            return None
+        found.extend(rest)
+    return found
+
+
+def bodies_ahead(body, names, callees):
+    """Return bodies that together describe what is called, of some names only, ahead of a call of some callees."""
+    found = []
+    ahead = []
+    for item in body:
+        if isinstance(item, str):
+            found.extend([ahead] if item in callees else [])
+        else:
+            again = _limited_item(item, names) if item[0] == "loop" else []
+            for inner in bodies_within(item):
+                found.extend([ahead + again + rest for rest in bodies_ahead(inner, names, callees)])
+        rest = _limited_item(item, names)
+        if rest is None:
+            return found
+        ahead = ahead + rest
+    return found

@@ -1,20 +1,15 @@
 """Conflicts: smallest sets of samples that contradict one another."""
 
-from stacksamples.blocks import NOTHING, can_follow, guides_of, next_track, tracks_of, turned
+from stacksamples.blocks import NOTHING, can_follow, guides_of, next_track, tracks_of, turned_tracks
 from stacksamples.errors import NotShown, TooLarge
-from stacksamples.programs import check_program, check_samples
+from stacksamples.programs import check_program, check_samples, is_integer
 
 MOST_SAMPLES_LEFT_OUT = 9
 
 
-def _turned_tracks(guides, samples):
-    """Return the tracks from behind of all samples, of all but the first 1, 2 and more, None where not shown."""
-    return tracks_of(turned(guides), samples[::-1])[::-1]
-
-
-def _are_shown(guides, track, turned_track):
+def _are_shown(track, turned_track):
     """Return whether the samples of a track and then those of a track from behind are shown."""
-    return track is not None and turned_track is not None and can_follow(guides, track, turned_track)
+    return track is not None and turned_track is not None and can_follow(track, turned_track)
 
 
 def conflict(program, samples):
@@ -27,12 +22,12 @@ def conflict(program, samples):
         return None
     # The samples up to the first one that is not shown together with those ahead of it.
     first_ones = samples[:tracks.index(None)]
-    turned_tracks = _turned_tracks(guides, first_ones)
+    tracks_behind = turned_tracks(guides, first_ones)
     found = []
     track = NOTHING
     for number in range(len(first_ones)):
         # A sample belongs to the conflict if those found so far and all later ones are shown without it.
-        if _are_shown(guides, track, turned_tracks[number + 1]):
+        if _are_shown(track, tracks_behind[number + 1]):
             found.append(number)
             track = next_track(guides, track, first_ones[number])
     return found
@@ -49,7 +44,7 @@ def _are_numbers(value, many):
     """Return whether any value is an ascending list of numbers of so many samples."""
     if not isinstance(value, list):
         return False
-    if not all([isinstance(number, int) and not isinstance(number, bool) for number in value]):
+    if not all([is_integer(number) for number in value]):
         return False
     if not all([0 <= number < many for number in value]):
         return False
@@ -67,8 +62,8 @@ def is_conflict(program, samples, value):
     tracks = tracks_of(guides, chosen)
     if tracks[-1] is not None:
         return False
-    turned_tracks = _turned_tracks(guides, chosen)
-    return all([_are_shown(guides, tracks[at], turned_tracks[at + 1]) for at in range(len(chosen))])
+    tracks_behind = turned_tracks(guides, chosen)
+    return all([_are_shown(tracks[at], tracks_behind[at + 1]) for at in range(len(chosen))])
 
 
 def _most_shown(program, samples):

@@ -21,6 +21,11 @@ def is_name(value):
     return all(["a" <= letter <= "z" for letter in value])
 
 
+def is_integer(value):
+    """Return whether any value is an integer."""
+    return isinstance(value, int) and not isinstance(value, bool)
+
+
 def is_function(program, value):
     """Return whether any value is a function of a program."""
     return isinstance(value, str) and value in program

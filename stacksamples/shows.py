@@ -17,15 +17,16 @@ def shows(program, samples):
     return tracks_of(guides_of(program), samples)[-1] is not None
 
 
-def _call_of(tracks):
-    """Return the call of main of which tracks tell.
+def open_calls(rows):
+    """Return the list of the calls that are open at the last sample, the outermost one first.
 
-    A call is a tuple of the name and the list of what happens in it: calls, and None for
-    each sample while it is the innermost call.
+    A row is a tuple (stack, kept) for each sample, with the number of calls in it that were
+    open at the sample before, too. A call is a tuple of the name and the list of what happens
+    in it: calls, and None for each sample while it is the innermost call.
     """
     outermost = ("main", [])
     path = [outermost]
-    for stack, _, kept in tracks:
+    for stack, kept in rows:
         path = path[:kept] if kept else [outermost]
         deeper = stack[len(path):]
         for name in deeper:
@@ -33,23 +34,24 @@ def _call_of(tracks):
             path[-1][1].append(inner)
             path.append(inner)
         path[-1][1].append(None)
-    return outermost
+    return path
 
 
-def _quick_steps(words, name):
-    """Return the steps of a shortest call of a function."""
-    steps = [("call", name)]
-    for callee in words[name]:
-        steps.extend(_quick_steps(words, callee))
-    steps.append(RETURN)
-    return steps
+def quick_steps(words):
+    """Return a dict from each function to the steps of a call of it in which each function calls its word."""
+    found = {}
+    while len(found) < len(words):
+        for name in words:
+            if name not in found and all([callee in found for callee in words[name]]):
+                inner = [step for callee in words[name] for step in found[callee]]
+                found[name] = [("call", name)] + inner + [RETURN]
+    return found
 
 
-def _steps_of(nets, quick, call):
-    """Return the steps of a call that returns, with further calls where its function needs them."""
-    name, events = call
-    word = word_around(nets[name], [event[0] for event in events if event is not None])
-    steps = [("call", name)]
+def steps_within(nets, quick, net, events):
+    """Return the steps within a call with a net, with further calls where the net needs them."""
+    word = word_around(net, [event[0] for event in events if event is not None])
+    steps = []
     at = 0
     for callee in word:
         while at < len(events) and events[at] is None:
@@ -61,19 +63,26 @@ def _steps_of(nets, quick, call):
         else:
             steps.extend(quick[callee])
     # All calls are made now, so only samples are left.
-    steps.extend([SAMPLE] * (len(events) - at))
-    steps.append(RETURN)
-    return steps
+    return steps + [SAMPLE] * (len(events) - at)
+
+
+def _steps_of(nets, quick, call):
+    """Return the steps of a call that returns."""
+    name, events = call
+    return [("call", name)] + steps_within(nets, quick, nets[name], events) + [RETURN]
+
+
+def run_along(program, tracks):
+    """Return a run in which main returns and in which samples are shown as their tracks tell."""
+    nets = {name: net_of(program[name]) for name in program}
+    quick = quick_steps(quick_words(program))
+    return _steps_of(nets, quick, open_calls([(stack, kept) for stack, _, kept in tracks])[0])
 
 
 def run_for(program, samples):
     """Return a run that shows samples and in which main returns."""
     check_shown(program, samples)
-    nets = {name: net_of(program[name]) for name in program}
-    words = quick_words(program)
-    quick = {name: _quick_steps(words, name) for name in program}
-    tracks = tracks_of(guides_of(program), samples)
-    return _steps_of(nets, quick, _call_of(tracks[1:]))
+    return run_along(program, tracks_of(guides_of(program), samples)[1:])
 
 
 def _is_call(program, step):

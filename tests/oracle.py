@@ -288,15 +288,73 @@ def is_run(program, value):
     return True
 
 
-def can_show(program, root, stacks, deepest=6):
-    """Whether one call of a function can show stacks: a search step by step over all that can be open."""
+def frames_of(run):
+    """For each sample step of a run a list with a number for each open call; different calls have different numbers."""
+    path, found = [], []
+    for number, step in enumerate(run):
+        if step[0] == "call":
+            path.append(number)
+        elif step[0] == "return":
+            path.pop()
+        else:
+            found.append(list(path))
+    return found
+
+
+def in_common(stack, other):
+    """How many names two stacks have in common ahead of the first different one."""
+    return next((at for at, pair in enumerate(zip(stack, other)) if pair[0] != pair[1]), min(len(stack), len(other)))
+
+
+def rows_of_kept(program, samples):
+    """All rows of numbers that tell how many calls can stay open between two neighbouring samples, one by one [34]."""
+    most = [range(1, in_common(stack, other) + 1) for stack, other in zip(samples, samples[1:])]
+    return [row for row in itertools.product(*most) if all_parts(program, samples, (0,) + row)]
+
+
+def all_parts(program, samples, row):
+    """Whether the calls that are shown, if so many stay open, are parts of the functions that make them."""
+    path, calls = [], []
+    for stack, kept in zip(samples, row):
+        path = path[:kept]
+        for name in stack[len(path):]:
+            calls.append((name, []))
+            if path:
+                path[-1][1].append(name)
+            path.append(calls[-1])
+    return all(is_subword_of_some(program, name, tuple(word)) for name, word in calls)
+
+
+def is_subword_of_some(program, name, word):
+    """Whether a word is a part of a function: what can still be done behind it, with any calls in between."""
+    rests = {frozen(program[name])}
+    for wanted in word:
+        rests = {left for rest in all_rests(rests) for callee, left in moves(rest) if callee == wanted}
+    return bool(rests)
+
+
+def all_rests(rests):
+    """All that can still be to do behind any calls."""
+    seen, waiting = set(rests), list(rests)
+    while waiting:
+        for _, left in moves(waiting.pop()):
+            if left not in seen:
+                seen.add(left)
+                waiting.append(left)
+    return seen
+
+
+def can_show(program, root, stacks, deepest=6, without=None):
+    """Whether one call of a function can show stacks, with no call of some function within: a search step by step
+    over all that can be open."""
     places = {((root, frozen(program[root])),)}
     for stack in stacks:
-        places = {place for place in all_behind(program, places, deepest) if tuple(name for name, _ in place) == stack}
+        found = all_behind(program, places, deepest, without)
+        places = {place for place in found if tuple(name for name, _ in place) == stack}
     return bool(places)
 
 
-def all_behind(program, places, deepest):
+def all_behind(program, places, deepest, without=None):
     """All lists of open calls, with what each one has still to do, to which steps lead."""
     seen, waiting = set(places), list(places)
     while waiting:
@@ -304,7 +362,10 @@ def all_behind(program, places, deepest):
         name, rest = place[-1]
         found = [place[:-1]] if can_end(rest) and len(place) > 1 else []
         if len(place) < deepest:
-            found += [place[:-1] + ((name, left), (callee, frozen(program[callee]))) for callee, left in moves(rest)]
+            found += [
+                place[:-1] + ((name, left), (callee, frozen(program[callee]))) for callee, left in moves(rest)
+                if callee != without
+            ]
         for new in found:
             if new not in seen:
                 seen.add(new)

@@ -10,8 +10,11 @@ import unittest
 import stacksamples.blocks
 import stacksamples.closures
 import stacksamples.conflicts
+import stacksamples.nexts
 import stacksamples.programs
+import stacksamples.same
 import stacksamples.shows
+import stacksamples.sure
 
 FOLDER = pathlib.Path(stacksamples.programs.__file__).parent
 ALLOWED = set(string.printable) - set("\t\r\x0b\x0c")
@@ -42,6 +45,13 @@ INTERFACE = {
         "conflict": ["program", "samples"], "is_conflict": ["program", "samples", "value"],
         "fewest_left_out": ["program", "samples"], "shown_rest": ["program", "samples"],
     },
+    stacksamples.same: {
+        "same_call": ["program", "samples", "first", "second", "depth"],
+        "same_run": ["program", "samples", "first", "second", "depth"],
+        "other_run": ["program", "samples", "first", "second", "depth"],
+    },
+    stacksamples.sure: {"surely_called": ["program", "samples"], "run_without": ["program", "samples", "name"]},
+    stacksamples.nexts: {"next_stacks": ["program", "samples", "depth"], "first_unshown": ["program", "samples"]},
 }
 METHODS = """
     append clear copy count endswith extend find get index insert isalnum isalpha isdigit islower isspace isupper items join
