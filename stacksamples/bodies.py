@@ -30,6 +30,19 @@ def names_in(body):
     return found
 
 
+def copied_body(body):
+    """Return a body that is equal to another one and shares no list with it."""
+    found = []
+    for item in body:
+        if isinstance(item, str):
+            found.append(item)
+        elif item[0] == "one":
+            found.append(("one", [copied_body(inner) for inner in item[1]]))
+        else:
+            found.append((item[0], copied_body(item[1])))
+    return found
+
+
 def _one_behind_other(plan, other):
     """Return the plan of two rows of items, the other one directly behind."""
     names, firsts, lasts, pairs, empty = plan

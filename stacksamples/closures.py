@@ -160,17 +160,17 @@ def reduced(products):
     return _normal_form(products)
 
 
-def is_repeatable_in(body, callee):
-    """Return whether a function is repeatable in a function with this body, which calls it."""
-    products = normal_products(body)
-    # Where a tuple stands for the call, it stands for two of them, too. So only names matter.
-    doubled = [
-        product[:at] + [callee] + product[at:]
-        for product in products
-        for at in range(len(product))
-        if product[at] == callee
-    ]
-    return all([is_product_in(products, product) for product in doubled])
+def once_between(products, callee):
+    """Return the atoms of a product ahead of and behind a name between which it can stand once, but not twice.
+
+    Return None if there are no such atoms.
+    """
+    for product in products:
+        for at in range(len(product)):
+            # Where a tuple stands for the call, it stands for two of them, too. So only names matter.
+            if product[at] == callee and not is_product_in(products, product[:at] + [callee] + product[at:]):
+                return product[:at], product[at + 1:]
+    return None
 
 
 def is_repeatable(program, name, callee):
@@ -179,4 +179,4 @@ def is_repeatable(program, name, callee):
     check_name(program, name)
     if callee not in names_in(program[name]):
         raise InvalidName("not a function that this one calls")
-    return is_repeatable_in(program[name], callee)
+    return once_between(normal_products(program[name]), callee) is None

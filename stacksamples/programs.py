@@ -12,6 +12,7 @@ FEWEST_CHOICES = 2
 MOST_CHOICES = 4
 MOST_CALLS_TO_RETURN = 12
 MOST_NAMES_IN_STACK = 8
+MOST_SAMPLES = 200
 
 
 def is_name(value):
@@ -154,16 +155,23 @@ def check_word(program, word):
         raise InvalidWord("not a list of functions of the program")
 
 
-def _is_stack(program, value):
+def is_stack(program, value):
     """Return whether any value is a stack of functions of a program."""
     if not isinstance(value, tuple) or not 1 <= len(value) <= MOST_NAMES_IN_STACK:
         return False
     return all([is_function(program, name) for name in value])
 
 
+def is_stack_of_names(value):
+    """Return whether any value is a stack that begins with main, of any names."""
+    if not isinstance(value, tuple) or not 1 <= len(value) <= MOST_NAMES_IN_STACK:
+        return False
+    return value[0] == "main" and all([is_name(name) for name in value])
+
+
 def check_stacks(program, stacks):
     """Raise InvalidStacks unless a value is a list of stacks that all begin with the same function."""
-    if not isinstance(stacks, list) or not all([_is_stack(program, stack) for stack in stacks]):
+    if not isinstance(stacks, list) or not all([is_stack(program, stack) for stack in stacks]):
         raise InvalidStacks("not a list of stacks of functions of the program")
     if not all([stack[0] == stacks[0][0] for stack in stacks]):
         raise InvalidStacks("the stacks do not begin with the same function")
@@ -171,7 +179,7 @@ def check_stacks(program, stacks):
 
 def check_samples(program, samples):
     """Raise InvalidSamples unless a value is a list of stacks that all begin with main."""
-    if not isinstance(samples, list) or not all([_is_stack(program, stack) for stack in samples]):
+    if not isinstance(samples, list) or not all([is_stack(program, stack) for stack in samples]):
         raise InvalidSamples("not a list of stacks of functions of the program")
     if not all([stack[0] == "main" for stack in samples]):
         raise InvalidSamples("not all samples begin with main")

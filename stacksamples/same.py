@@ -57,8 +57,6 @@ def _tracks_of_two(program, samples, first, second, depth):
     """Return tracks of all samples in which two frames are two activations, None if there are none."""
     guides = guides_of(program)
     tracks = tracks_of(guides, samples)
-    if _track_kept(guides, tracks[first + 1], samples[first + 1:second + 1], depth) is None:
-        return tracks[1:]
     tracks_behind = turned_tracks(guides, samples)
     for number in range(first + 1, second + 1):
         track = next_track(guides, tracks[number], samples[number], depth)

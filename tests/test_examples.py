@@ -20,7 +20,7 @@ def answer(source, names):
         found = eval(compiled, names)
     except StackError as error:
         fields = [f"{name}={value!r}" for name, value in vars(error).items()]
-        return f"raises {type(error).__name__}({', '.join(fields)})"
+        return f"raises {type(error).__name__}" + (f"({', '.join(fields)})" if fields else "")
     return "" if found is None else repr(found)
 
 
@@ -42,10 +42,10 @@ class Examples(unittest.TestCase):
 
     def test_of_the_document(self):
         text = (HERE / "examples.md").read_text()
-        for number in range(14, 40):
-            # [34] says what the examples of [32] and [33] show.
-            self.assertIs(f"[{number}]\n" in text, number != 34, number)
-        self.check(HERE / "examples.md", 105)
+        for number in range(14, 54):
+            # The examples of these points stand at those beside them.
+            self.assertIs(f"[{number}]\n" in text, number not in (34, 42), number)
+        self.check(HERE / "examples.md", 160)
 
     def test_of_the_readme(self):
         self.check(HERE.parent / "README.md", 20)

@@ -25,7 +25,7 @@ BAD_STEPS = [
     None, True, 0, 1, "", "return", "sample", "call", (), [], {}, set(), ("return", "main"), ("sample", "main"), ("return", None),
     ("sample", 1), ["return"], ["sample"], ["call", "a"], ("Return",), ("returns",), (b"return",), (b"sample",), ("call",),
     ("call", "a", "b"), ("call", "zz"), ("call", "A"), ("call", ""), ("call", None), ("call", 1), ("call", ["a"]), ("call", {}),
-    ("a",), "a", ("a", "call"), [("return",)], (("return",),), [[("call", "a")]], {"return": 1}, {"return"}, object(), ("",),
+    ("return", "a"), ("sample", "a"), ("Call", "a"), (None, "a"), ("main", "a"), ("a", "a"), ("a",), "a", ("a", "call"), [("return",)], (("return",),), [[("call", "a")]], {"return": 1}, {"return"}, object(), ("",),
 ]
 
 
